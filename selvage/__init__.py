@@ -1,0 +1,1 @@
+"""Selvage: lengths cut from rolls with flaws."""
