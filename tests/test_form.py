@@ -21,6 +21,13 @@ INTERFACE = {
     "places": {
         "fits": ["roll", "kind", "place"], "all_pieces": ["roll", "table"], "end_of": ["table", "piece"],
     },
+    "judge": {"amount": ["roll", "table", "cutting"]},
+    "best": {"heights": ["roll", "table"], "best": ["roll", "table"]},
+    "prices": {"prices": ["roll", "table"], "shows": ["roll", "table", "number", "prices"]},
+    "counts": {
+        "cutting_count": ["roll", "table"], "best_count": ["roll", "table"],
+        "all_best": ["roll", "table", "most"],
+    },
 }
 
 NODES = set(
@@ -134,6 +141,50 @@ class TestForm(unittest.TestCase):
         for path, node in walked():
             if isinstance(node, ast.Call) and isinstance(node.func, ast.Attribute):
                 self.assertIn(node.func.attr, OWN_METHODS | own, (path.name, node.lineno))
+
+    def test_sets_and_identity(self):
+        for path, node in walked():
+            at = (path.name, getattr(node, "lineno", 0))
+            if isinstance(node, ast.Compare) and isinstance(node.ops[0], (ast.Is, ast.IsNot)):
+                self.assertIn(ast.unparse(node.comparators[0]), ("None", "True", "False"), at)
+            if isinstance(node, (ast.Assign, ast.AugAssign, ast.Return, ast.For)):
+                value = node.iter if isinstance(node, ast.For) else node.value
+                told = value.func.id if isinstance(value, ast.Call) and isinstance(value.func, ast.Name) else ""
+                self.assertNotIn(told, ("set", "frozenset"), at)
+                self.assertNotIsInstance(value, ast.Set, at)
+
+    def test_own_names_of_a_file(self):
+        for path, tree in trees():
+            taken = {
+                name.asname or name.name
+                for node in tree.body if isinstance(node, ast.ImportFrom) for name in node.names
+            }
+            taken |= {node.name for node in tree.body if isinstance(node, ast.ClassDef)}
+            for node in ast.walk(tree):
+                if isinstance(node, ast.arg):
+                    self.assertNotIn(node.arg, taken, (path.name, node.lineno))
+                if isinstance(node, ast.Name) and isinstance(node.ctx, ast.Store):
+                    self.assertNotIn(node.id, taken, (path.name, node.lineno))
+
+    def test_methods_are_no_values(self):
+        methods, values = set(), set()
+        for path, node in walked():
+            if isinstance(node, ast.ClassDef):
+                methods |= {part.name for part in node.body if isinstance(part, ast.FunctionDef)}
+            if isinstance(node, ast.Attribute) and isinstance(node.ctx, ast.Store):
+                values.add(node.attr)
+        self.assertEqual(methods & values, set())
+
+    def test_no_two_files_draw_from_one_another(self):
+        drawn = {
+            "selvage." + path.stem: {node.module for node in tree.body if isinstance(node, ast.ImportFrom)}
+            for path, tree in trees()
+        }
+        while drawn:
+            bare = [file for file in drawn if not drawn[file] & set(drawn)]
+            self.assertNotEqual(bare, [], sorted(drawn))
+            for file in bare:
+                del drawn[file]
 
     def test_top_and_imports(self):
         defined = {"selvage." + path.stem: bound_at_top(tree) for path, tree in trees()}
