@@ -1,6 +1,7 @@
 """The greatest worth of a cutting, and the one cutting that is told of those that have it."""
 
 from selvage.places import fits
+from selvage.rolls import turned
 
 
 def ending(roll, table, end):
@@ -18,6 +19,11 @@ def heights(roll, table):
     while len(tops) <= len(roll):
         tops.append(next_top(roll, table, tops))
     return tops
+
+
+def tails(roll, table):
+    # A roll turned about is worth as much, so the worths of the rests are heights, too.
+    return list(reversed(heights(turned(roll), table)))
 
 
 def last_kind(roll, table, tops, end):

@@ -28,6 +28,22 @@ INTERFACE = {
         "cutting_count": ["roll", "table"], "best_count": ["roll", "table"],
         "all_best": ["roll", "table", "most"],
     },
+    "standing": {
+        "musts": ["roll", "table"], "mays": ["roll", "table"], "loss": ["roll", "table", "piece"],
+        "runner_up": ["roll", "table"],
+    },
+    "parting": {
+        "parting_loss": ["roll", "table", "place"], "free_places": ["roll", "table"],
+        "parted": ["roll", "places"], "best_parting": ["roll", "table", "parts"],
+    },
+    "mending": {"mends": ["roll", "kind", "place"], "mended_best": ["roll", "table", "most"]},
+    "feed": {"Feed": ["table"]},
+}
+METHODS = {
+    ("feed", "Feed"): {
+        "take": ["weight"], "close": [], "closed": [], "cells": [], "worth": [], "cutting": [], "sure": [],
+        "settled": [], "open_starts": [], "between": ["rest"],
+    },
 }
 
 NODES = set(
@@ -86,6 +102,13 @@ class TestInterface(unittest.TestCase):
             for name, arguments in functions.items():
                 told = inspect.signature(getattr(module, name)).parameters
                 self.assertEqual(list(told), arguments, name)
+
+    def test_methods_and_arguments(self):
+        for (file, name), methods in METHODS.items():
+            made = getattr(importlib.import_module("selvage." + file), name)
+            for method, arguments in methods.items():
+                told = inspect.signature(getattr(made, method)).parameters
+                self.assertEqual(list(told), ["self"] + arguments, method)
 
 
 class TestForm(unittest.TestCase):
