@@ -40,8 +40,8 @@ def all_best(roll, table, most):
     if best_count(roll, table) > most:
         raise TooMany(most)
     tops = heights(roll, table)
-    # From the end to the front: each list kept here is the end of some told cutting, so
-    # there are never more of them than are told; from the front there could be.
+    # From the end to the front: each list kept here is the end of some told cutting, so at
+    # no place are there more of them than are told; from the front there could be.
     behind = [[] for top in tops]
     behind[-1].append([])
     for end in range(len(roll), 0, -1):
