@@ -24,3 +24,9 @@ def shows(roll, table, number, prices):
         if any([underpaid(roll, kind, prices, place) for place in range(len(roll))]):
             return False
     return True
+
+
+def all_show(rolls, table, lists):
+    if len(lists) != len(rolls):
+        return False
+    return all([shows(roll, table, sum(some), some) for roll, some in zip(rolls, lists)])

@@ -38,6 +38,23 @@ INTERFACE = {
     },
     "mending": {"mends": ["roll", "kind", "place"], "mended_best": ["roll", "table", "most"]},
     "feed": {"Feed": ["table"]},
+    "orders": {
+        "checked_order": ["table", "order"], "states": ["order"],
+        "plan_left": ["rolls", "table", "order", "plan"],
+    },
+    "filling": {
+        "leavings": ["rolls", "table", "order"], "fill": ["rolls", "table", "order"],
+        "richest": ["rolls", "table", "order"],
+    },
+    "floors": {
+        "pointed": ["table", "points"], "floor_by": ["rolls", "table", "order", "points"],
+        "floor": ["rolls", "table", "order"],
+        "shows_floor": ["rolls", "table", "order", "number", "paper"],
+    },
+    "ceilings": {
+        "ceiling": ["rolls", "table", "order"],
+        "shows_ceiling": ["rolls", "table", "order", "number", "paper"],
+    },
 }
 METHODS = {
     ("feed", "Feed"): {

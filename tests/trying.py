@@ -99,6 +99,36 @@ def told_in_words(roll, table):
     raise AssertionError("no last piece")
 
 
+def cut_of(table, cutting):
+    """How many pieces of each kind a cutting has, in the table's order."""
+    cut = [name for place, name in cutting]
+    return tuple(cut.count(kind[0]) for kind in table)
+
+
+@functools.lru_cache(maxsize=None)
+def ways_tried(cells, kinds):
+    return sorted({cut_of(kinds, cutting) for cutting in tried(cells, kinds, 0)})
+
+
+def plans_tried(rolls, table, order):
+    """Each (used, left) of all plans that cut no more than the order wants, found by trying."""
+    found = set()
+    for plan in itertools.product(*[ways_tried(tuple(roll), tuple(table)) for roll in rolls]):
+        left = tuple(wanted - sum(cuts) for wanted, *cuts in zip(order, *plan))
+        if min(left, default=0) >= 0:
+            found.add((sum(any(cuts) for cuts in plan), left))
+    return found
+
+
+def order_cases(count=48):
+    """Few small rolls, a table and an order, drawn the same each time."""
+    for table in TABLES:
+        for seed in range(count):
+            lengths = mixed(seed, seed % 6, (0, 2, 3, 4, 5, 6))
+            rolls = [mixed(seed * 5 + at, length, (0, 0, 0, 1, 3)) for at, length in enumerate(lengths)]
+            yield rolls, table, mixed(seed + 50, len(table), (0, 0, 1, 1, 2, 3))
+
+
 def outcome(ask, arguments):
     try:
         return ask(*arguments)
