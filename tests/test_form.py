@@ -55,12 +55,24 @@ INTERFACE = {
         "ceiling": ["rolls", "table", "order"],
         "shows_ceiling": ["rolls", "table", "order", "number", "paper"],
     },
+    "greedy": {"greedy": ["rolls", "table", "order"]},
+    "stock": {"Stock": ["table", "least"]},
+    "texts": {
+        "show_numbers": ["some"], "show_table": ["table"], "show_cutting": ["cutting"],
+        "read_numbers": ["line"], "read_table": ["line"], "read_cutting": ["line"],
+    },
+    "desk": {"Desk": []},
 }
 METHODS = {
     ("feed", "Feed"): {
         "take": ["weight"], "close": [], "closed": [], "cells": [], "worth": [], "cutting": [], "sure": [],
         "settled": [], "open_starts": [], "between": ["rest"],
     },
+    ("stock", "Stock"): {
+        "lay": ["roll"], "serve": ["order", "numbers"], "sell": ["number"], "back": [], "again": [], "numbers": [],
+        "roll": ["number"], "total": [], "sums": [],
+    },
+    ("desk", "Desk"): {"say": ["line"]},
 }
 
 NODES = set(
