@@ -39,14 +39,14 @@ class Stock:
             raise TooBig(f"there are more than {MOST_SERVING} rolls")
         plan = fill(rolls, self.kinds, order)[1]
         served = [(number, cutting) for number, cutting in zip(rising, plan) if len(cutting) > 0]
-        return self.enter(self.cut_up(served), served)
+        return self.enter(self.shelf_after(served), served)
 
     def sell(self, number):
         cutting = best(self.roll(number), self.kinds)[1]
         sold = [(number, cutting)] if len(cutting) > 0 else []
-        return self.enter(self.cut_up(sold), cutting)
+        return self.enter(self.shelf_after(sold), cutting)
 
-    def cut_up(self, cuttings):
+    def shelf_after(self, cuttings):
         shelf = self.shelf.another()
         for number, cutting in cuttings:
             shelf.cut_up(number, cutting, self.kinds, self.least)
